@@ -7,6 +7,7 @@ import (
 
 	"aileron/api"
 	"aileron/bank"
+	"aileron/orders"
 	"aileron/plan"
 	"aileron/write"
 )
@@ -181,29 +182,6 @@ func (r *race) whole() {
 	}
 }
 
-// everyOrder runs races in every order that there is, and tells how many there were.
-func everyOrder(run func(choose func(n int) int)) int {
-	type choice struct{ took, of int }
-	var taken []choice
-	for orders := 1; ; orders++ {
-		at := 0
-		run(func(n int) int {
-			if at == len(taken) {
-				taken = append(taken, choice{0, n})
-			}
-			at++
-			return taken[at-1].took
-		})
-		for len(taken) > 0 && taken[len(taken)-1].took+1 == taken[len(taken)-1].of {
-			taken = taken[:len(taken)-1]
-		}
-		if len(taken) == 0 {
-			return orders
-		}
-		taken[len(taken)-1].took++
-	}
-}
-
 // P8.3: several publishings, in every order of their steps.
 func TestEveryOrder(t *testing.T) {
 	for _, c := range []struct{ words, depth, tries, tasks, records, earlier int }{
@@ -212,7 +190,7 @@ func TestEveryOrder(t *testing.T) {
 	} {
 		s := plan.Spot{Owners: 1, Seq: 2, First: 4, Words: c.words, Depth: c.depth}
 		least, most, spent := 1000, 0, 0
-		orders := everyOrder(func(choose func(n int) int) {
+		runs := orders.Every(func(choose func(n int) int) {
 			quiet := true
 			r := start(t, s, c.tries, c.tasks, c.records, c.earlier, func(n int) int {
 				if quiet {
@@ -228,8 +206,8 @@ func TestEveryOrder(t *testing.T) {
 				t.Fatalf("%+v: %d done, %d spent", c, published, r.spent)
 			}
 		})
-		if orders < 10 || least < 1 || most != c.tasks*c.records || spent == 0 {
-			t.Errorf("%+v: %d orders, from %d to %d done, %d spent", c, orders, least, most, spent)
+		if runs < 10 || least < 1 || most != c.tasks*c.records || spent == 0 {
+			t.Errorf("%+v: %d orders, from %d to %d done, %d spent", c, runs, least, most, spent)
 		}
 	}
 }
